@@ -1,0 +1,1 @@
+"""Knell: bells that ring at even gaps."""
